@@ -297,24 +297,14 @@ func TestEvalPlanPairs(t *testing.T) {
 // Promise 9 at plans made by chance.
 func TestEvalPlanByChance(t *testing.T) {
 	r := rand.New(rand.NewSource(34))
-	ran, stopped, full := 0, 0, 0
+	var came tally
 	for range 20000 {
 		g := planner{r: r, db: chanceDb(r)}
 		o := g.plan(0, 1+r.Intn(5))
 		wantPlan(t, "by chance", o, g.db)
-		rows, ok := impl.EvalPlan(o.plan(), g.db)
-		if ok {
-			ran++
-		} else {
-			stopped++
-		}
-		if len(rows) > 1 {
-			full++
-		}
+		came.add(impl.EvalPlan(o.plan(), g.db))
 	}
-	if ran < 10000 || stopped < 50 || full < 2000 {
-		t.Errorf("%d ran, %d stopped, %d have rows", ran, stopped, full)
-	}
+	came.want(t, 10000, 50, 2000)
 }
 
 // Promise 9, no node makes more than PlanWork rows: the right side of a product is not run for each row of the left

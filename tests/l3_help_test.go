@@ -490,6 +490,32 @@ func wantNoPlan(t *testing.T, what string, p impl.Plan, db impl.Db) {
 	}
 }
 
+// tally counts what came of plans made by chance, so that a test can ask for enough of each.
+type tally struct {
+	ran     int
+	stopped int
+	full    int
+}
+
+func (c *tally) add(rows [][]impl.Val, ok bool) {
+	if ok {
+		c.ran++
+	} else {
+		c.stopped++
+	}
+	if len(rows) > 1 {
+		c.full++
+	}
+}
+
+// want asks that at least so many ran, were stopped by their work, and have several rows.
+func (c tally) want(t *testing.T, ran int, stopped int, full int) {
+	t.Helper()
+	if c.ran < ran || c.stopped < stopped || c.full < full {
+		t.Errorf("%d ran, %d stopped, %d have rows", c.ran, c.stopped, c.full)
+	}
+}
+
 // planner makes plans by chance.
 type planner struct {
 	r  *rand.Rand
