@@ -358,23 +358,7 @@ func TestAstOkByChance(t *testing.T) {
 		if code != 0 || !impl.AstOk(a) {
 			t.Fatalf("%q: code %d, AstOk %v", text, code, impl.AstOk(a))
 		}
-		n := &a.Nodes[r.Intn(len(a.Nodes))]
-		switch r.Intn(5) {
-		case 0:
-			n.K = 1 + r.Intn(15)
-		case 1:
-			n.M = r.Intn(8)
-		case 2:
-			n.N = int64(r.Intn(4))
-		case 3:
-			if len(n.Kids) > 0 {
-				n.Kids[r.Intn(len(n.Kids))] = r.Intn(len(a.Nodes))
-			}
-		case 4:
-			if len(n.Kids) > 0 {
-				n.Kids = n.Kids[1:]
-			}
-		}
+		spoilAst(r, &a)
 		wantOk(t, "changed by chance", a, okWant(a))
 	}
 }

@@ -384,3 +384,24 @@ func (g grower) cond(high int) shape {
 	}
 	return sOfM(impl.KCmp, 1+g.r.Intn(6), g.scalar(high-1), g.scalar(high-1))
 }
+
+// spoilAst changes one thing of a tree.
+func spoilAst(r *rand.Rand, a *impl.Ast) {
+	n := &a.Nodes[r.Intn(len(a.Nodes))]
+	switch r.Intn(5) {
+	case 0:
+		n.K = 1 + r.Intn(15)
+	case 1:
+		n.M = r.Intn(8)
+	case 2:
+		n.N = int64(r.Intn(4))
+	case 3:
+		if len(n.Kids) > 0 {
+			n.Kids[r.Intn(len(n.Kids))] = r.Intn(len(a.Nodes))
+		}
+	case 4:
+		if len(n.Kids) > 0 {
+			n.Kids = n.Kids[1:]
+		}
+	}
+}

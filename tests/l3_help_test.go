@@ -147,6 +147,20 @@ func smallDb() impl.Db {
 	}}
 }
 
+// wrongDbs are changes each of which makes smallDb a Db that is not valid.
+func wrongDbs() map[string]func(db *impl.Db) {
+	return map[string]func(db *impl.Db){
+		"a name":         func(db *impl.Db) { db.Tables[2].Name = "SELECT" },
+		"two names":      func(db *impl.Db) { db.Tables[2].Name = "r" },
+		"no columns":     func(db *impl.Db) { db.Tables[2].Cols = 0 },
+		"columns":        func(db *impl.Db) { db.Tables[2].Cols = impl.MaxCols + 1 },
+		"a row":          func(db *impl.Db) { db.Tables[2].Rows = [][]impl.Val{nums(1, 2)} },
+		"many rows":      func(db *impl.Db) { db.Tables[2] = bigTable("none", impl.MaxRows) },
+		"too many":       func(db *impl.Db) { db.Tables = append(db.Tables, manyTables(impl.MaxTables).Tables...) },
+		"a row too long": func(db *impl.Db) { db.Tables[1].Rows[0] = nums(1, 2) },
+	}
+}
+
 // planWant is what PlanOk has to say, by the words of the document alone: it goes down from the root, with the
 // environment in hand.
 func planWant(p impl.Plan, db impl.Db) (int, bool) {

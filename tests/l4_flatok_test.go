@@ -382,17 +382,7 @@ func TestFlatOkTables(t *testing.T) {
 
 // Promise 10, a Db that is not valid under a flat plan that is.
 func TestFlatOkWrongDb(t *testing.T) {
-	wrong := map[string]func(db *impl.Db){
-		"a name":         func(db *impl.Db) { db.Tables[2].Name = "SELECT" },
-		"two names":      func(db *impl.Db) { db.Tables[2].Name = "r" },
-		"no columns":     func(db *impl.Db) { db.Tables[2].Cols = 0 },
-		"columns":        func(db *impl.Db) { db.Tables[2].Cols = impl.MaxCols + 1 },
-		"a row":          func(db *impl.Db) { db.Tables[2].Rows = [][]impl.Val{nums(1, 2)} },
-		"many rows":      func(db *impl.Db) { db.Tables[2] = bigTable("none", impl.MaxRows) },
-		"too many":       func(db *impl.Db) { db.Tables = append(db.Tables, manyTables(impl.MaxTables).Tables...) },
-		"a row too long": func(db *impl.Db) { db.Tables[1].Rows[0] = nums(1, 2) },
-	}
-	for what, spoil := range wrong {
+	for what, spoil := range wrongDbs() {
 		for _, f := range append(kindsOfFlats(), flat(fUnit())) {
 			db := smallDb()
 			spoil(&db)
